@@ -1,0 +1,1 @@
+"""Choirtrue: songs sung pure, how they sink, and how they are brought back."""
