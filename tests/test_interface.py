@@ -11,6 +11,10 @@ FILES = {
     "ratios": {"ratio_of": 2, "together": 2, "turned": 1, "power": 2, "size": 1, "fraction": 1,
                "ratio_text": 1},
     "reading": {"read": 1, "read_tie": 1},
+    "writing": {"written": 1},
+    "songs": {"need_song": 1, "is_overlap": 2, "parts_of": 1},
+    "tuning": {"tuned": 1, "round_ratio": 2, "is_round": 3},
+    "sinking": {"sink": 1, "sunk": 2, "lost": 2},
 }
 
 
