@@ -15,6 +15,14 @@ FILES = {
     "songs": {"need_song": 1, "is_overlap": 2, "parts_of": 1},
     "tuning": {"tuned": 1, "round_ratio": 2, "is_round": 3},
     "sinking": {"sink": 1, "sunk": 2, "lost": 2},
+    "bending": {"bends": 2, "stands": 2, "cost": 2, "worth": 2, "is_flow": 2, "brought": 1},
+    "papers": {"is_right": 2},
+    "house": {"House": 1},
+    "desk": {"Desk": 1},
+}
+METHODS = {
+    ("house", "House"): {"put": 1, "take": 1, "song": 0, "tuned": 0, "sink": 0, "lost": 1, "brought": 0},
+    ("desk", "Desk"): {"say": 1},
 }
 
 
@@ -28,6 +36,14 @@ class Interface(unittest.TestCase):
                     self.assertEqual(told.__module__, "choirtrue." + file)
                     if many is not None:
                         self.assertEqual(len(inspect.signature(told).parameters), many)
+
+    def test_methods_stand_in_the_class_itself(self):
+        for (file, kind), names in METHODS.items():
+            methods = vars(getattr(importlib.import_module("choirtrue." + file), kind))
+            for name, many in names.items():
+                with self.subTest(file=file, name=name):
+                    # The object itself is one more.
+                    self.assertEqual(len(inspect.signature(methods[name]).parameters), many + 1)
 
 
 if __name__ == "__main__":
